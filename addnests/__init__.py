@@ -1,0 +1,1 @@
+"""Nests of loops that add to cells, decided for all arrays."""

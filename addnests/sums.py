@@ -1,0 +1,162 @@
+"""Sums of products of a few factors 1 - z ** v, decided by multiplying out what they do not share.
+
+A sum is a dict of groups: from a tuple of members, which name the factors, to what these factors are multiplied by,
+the terms, a dict from places to amounts other than 0. No member stands twice in a key.
+"""
+
+# The powers of a primitive root of a prime tell most sums from 0 at a glance.
+PRIME = 2147483647
+ROOT = 7
+
+# So many thinned keys are looked at in search of groups that are close to each other, and no more.
+MOST_KEYS = 100000
+
+
+def ranked(groups, vectors):
+    """The sum divided by the factors of all groups, with other keys, and the vectors of their members.
+
+    The members are numbers from 0 on in the order of how many groups have them, the most common one first.
+    """
+    many = {}
+    for key in groups:
+        for member in key:
+            many[member] = many.get(member, 0) + 1
+    order = sorted([one for one in many if many[one] < len(groups)], key=lambda one: (-many[one], one))
+    rank = {one: at for at, one in enumerate(order)}
+    renamed = {tuple(sorted([rank[one] for one in key if one in rank])): groups[key] for key in groups}
+    return (renamed, [vectors[one] for one in order])
+
+
+def power(exponent):
+    """The root's power for an integer of any sign, modulo the prime."""
+    left = exponent % (PRIME - 1)
+    result = 1
+    square = ROOT
+    while left > 0:
+        if left & 1:
+            result = result * square % PRIME
+        square = square * square % PRIME
+        left = left >> 1
+    return result
+
+
+def residue(groups, vectors):
+    """The value of a sum at the root, modulo the prime: the sum is not 0 if this is not 0."""
+    values = [1 - power(vector) for vector in vectors]
+    total = 0
+    for key in groups:
+        part = sum([amount * power(place) for place, amount in groups[key].items()])
+        for member in key:
+            part = part * values[member] % PRIME
+        total = total + part
+    return total % PRIME
+
+
+def without_zeros(terms):
+    """The terms whose amount is not 0."""
+    return {place: amount for place, amount in terms.items() if amount != 0}
+
+
+def multiplied(terms, vector):
+    """The terms times a factor 1 - z ** vector."""
+    total = dict(terms)
+    for place, amount in terms.items():
+        behind = place + vector
+        total[behind] = total.get(behind, 0) - amount
+    return without_zeros(total)
+
+
+def thinned(key, most):
+    """All that can be left of a key when at most so many members are taken out."""
+    if most == 0 or len(key) == 0:
+        return [key]
+    return [key[:1] + rest for rest in thinned(key[1:], most)] + thinned(key[1:], most - 1)
+
+
+def ways(size, most):
+    """How many thinned keys there are of a key of some size."""
+    total = 1
+    chosen = 1
+    for taken in range(1, most + 1):
+        chosen = chosen * (size - taken + 1) // taken
+        total = total + chosen
+    return total
+
+
+def merged(keys, rest, groups, vectors):
+    """The terms of the sum of some groups, divided by the factors of a key that they have in common."""
+    total = {}
+    for key in keys:
+        terms = groups[key]
+        for member in key:
+            if member not in rest:
+                terms = multiplied(terms, vectors[member])
+        for place, amount in terms.items():
+            total[place] = total.get(place, 0) + amount
+    return without_zeros(total)
+
+
+def met(groups, most, vectors):
+    """The same sum, where groups that are alike but for so many members each have become one, the closest first."""
+    sharing = {}
+    for key in groups:
+        for rest in thinned(key, most):
+            sharing[rest] = sharing.get(rest, []) + [key]
+    several = [rest for rest in sharing if len(sharing[rest]) > 1]
+    taken = {}
+    result = {}
+    for rest in sorted(several, key=lambda one: (-len(one), -len(sharing[one]), one)):
+        free = [key for key in sharing[rest] if key not in taken]
+        if len(free) > 1:
+            for key in free:
+                taken[key] = True
+            result[rest] = merged(free, rest, groups, vectors)
+    for key in groups:
+        if key not in taken:
+            result[key] = groups[key]
+    return {key: result[key] for key in result if len(result[key]) > 0}
+
+
+def gathered(groups, vectors):
+    """The same sum in fewer groups, since those that differ least often cancel when nothing else is expanded."""
+    longest = max([len(key) for key in groups])
+    for most in range(1, longest + 1):
+        before = 0
+        while len(groups) not in (0, 1, before) and sum([ways(len(key), most) for key in groups]) <= MOST_KEYS:
+            before = len(groups)
+            groups = met(groups, most, vectors)
+    return groups
+
+
+def runs(keys, depth):
+    """Sorted keys, cut into lists of those with the same member at a depth."""
+    starts = [at for at in range(len(keys)) if at == 0 or keys[at][depth] != keys[at - 1][depth]]
+    return [keys[start:end] for start, end in zip(starts, starts[1:] + [len(keys)])]
+
+
+def expanded(keys, depth, groups, vectors):
+    """The terms of the sum of some groups, divided by the factors ahead of a depth, which their sorted keys share.
+
+    Members behind others are multiplied out first: the rare ones, without which keys cannot meet.
+    """
+    total = {}
+    longer = keys
+    if len(keys[0]) == depth:
+        total = dict(groups[keys[0]])
+        longer = keys[1:]
+    for run in runs(longer, depth):
+        for place, amount in multiplied(expanded(run, depth + 1, groups, vectors), vectors[run[0][depth]]).items():
+            total[place] = total.get(place, 0) + amount
+    return without_zeros(total)
+
+
+def is_zero(products):
+    """Whether a sum is 0; the members of its keys are pairs of a vector and a number."""
+    groups, vectors = ranked(products, {member: member[0] for key in products for member in key})
+    if residue(groups, vectors) != 0:
+        return False
+    if len(groups) > 1:
+        groups, vectors = ranked(gathered(groups, vectors), vectors)
+    if len(groups) == 0:
+        return True
+    return len(expanded(sorted(groups), 0, groups, vectors)) == 0
