@@ -5,6 +5,7 @@ then the quotient of 1 - z ** (n * s) by 1 - z ** s, and a nest is its amount ti
 Cells and steps are packed into single integers, which keep apart what can occur here, in Python's order of cells.
 """
 
+from addnests.sums import without_zeros
 from addnests.vectors import product_sum
 
 
@@ -63,7 +64,7 @@ def collected(terms):
     total = {}
     for place, amount in terms:
         total[place] = total.get(place, 0) + amount
-    return {place: amount for place, amount in total.items() if amount != 0}
+    return without_zeros(total)
 
 
 def grouped(quotients):

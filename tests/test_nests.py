@@ -152,6 +152,30 @@ class Rewriting(unittest.TestCase):
         self.assertEqual(spread(WIDE, 2), [(WIDE[0][:2], (-1, 4), -2)])
         self.assertEqual(spread(([(60, (2,))], (1,), 1), 0), [([], (1 + 2 * k,), 1) for k in range(60)])
 
+    def test_first_and_last_arguments(self):
+        for count in (0, 1, 60, 61, BIG):
+            nest = ([(count, (3,))], (5,), 2)
+            self.assertEqual(split(nest, 0, 0), [([(0, (3,))], (5,), 2), nest])
+            self.assertEqual(split(nest, 0, count), [nest, ([(0, (3,))], (5 + 3 * count,), 2)])
+            self.assertEqual(blocked(nest, 0, 1), [([(count, (3,)), (1, (3,))], (5,), 2)])
+            self.assertEqual(blocked(nest, 0, count + 1), [([(0, (3 * count + 3,)), (count + 1, (3,))], (5,), 2)]
+                             + [nest] * (count > 0))
+            self.assertEqual(unrolled(nest, 0, 1), [nest])
+            last = ([((count - 19 + 19) // 20, (60,))], (5 + 19 * 3,), 2)
+            self.assertEqual((len(unrolled(nest, 0, 20)), unrolled(nest, 0, 20)[19]), (20, last))
+            self.assertEqual(turned(nest, 0), ([(count, (-3,))], (2 + 3 * count,), 2))
+            self.assertEqual(swapped(nest, 0, 0), nest)
+            self.assertEqual(joined(nest, ([(0, (3,))], (5 + 3 * count,), 2), 0), nest)
+            if count <= 60:
+                self.assertEqual(spread(nest, 0), [([], (5 + 3 * done,), 2) for done in range(count)])
+            else:
+                self.assertEqual(raised(InvalidNumber, spread, nest, 0).value, count)
+            for wrong in (-1, count + 1):
+                self.assertEqual(raised(InvalidNumber, split, nest, 0, wrong).value, wrong)
+            for wrong in (0, 21):
+                self.assertEqual(raised(InvalidNumber, unrolled, nest, 0, wrong).value, wrong)
+            self.assertEqual(raised(InvalidNumber, blocked, nest, 0, 0).value, 0)
+
     def test_turned(self):
         self.assertEqual(turned(nest=WIDE, at=0), ([(3, (-1, 2)), (0, (0, 0)), (1, (5, 5))], (1, 0), -2))
         self.assertEqual(turned(([(0, (1, -2))], (5, 5), 1), 0), ([(0, (-1, 2))], (4, 7), 1))
