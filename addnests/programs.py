@@ -1,12 +1,18 @@
 """Programs: lists of nests on arrays of so many axes."""
 
-from addnests.errors import InvalidCell, InvalidList, InvalidNest, InvalidNumber, UnlikeAxes
+from addnests.errors import InvalidCell, InvalidList, InvalidNest, InvalidNumber, InvalidProgram, UnlikeAxes
 from addnests.nests import is_axes, is_cell, is_nest
 from addnests.quotients import numerator
 from addnests.sums import is_zero
 from addnests.vectors import is_whole, plus, product_sum
 
 MOST_ROWS = 3
+
+
+def check_program(value):
+    """Raise InvalidProgram unless a value is a program."""
+    if not isinstance(value, Program):
+        raise InvalidProgram(value)
 
 
 def check_axes(one, other):

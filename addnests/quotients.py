@@ -26,6 +26,17 @@ def weights_for(rows, axes):
     return weights
 
 
+def unpacked(place, weights):
+    """The cell of a packed place: each of its numbers is nearest to what is left, as the others weigh less."""
+    cell = []
+    left = place
+    for weight in weights:
+        number = (2 * left + weight) // (2 * weight)
+        cell.append(number)
+        left = left - number * weight
+    return tuple(cell)
+
+
 def without(some, others):
     """What is left of a list when the members of another one are struck out, each as often as it is there."""
     struck = list(others)
@@ -102,10 +113,20 @@ def cleared(groups):
     return result
 
 
+def packed(rows, axes):
+    """The sums of the nests with the same factors and divisors, packed."""
+    weights = weights_for(rows, axes)
+    return grouped([quotient(row, weights) for row in rows])
+
+
+def denominator(rows, axes):
+    """The vectors v of the factors 1 - z ** v of a common denominator of a sum of nests."""
+    return [vector for vector, nth in common_divisors(packed(rows, axes))]
+
+
 def numerator(rows, axes):
-    """What is left of the sum of nests when it is multiplied by a common denominator.
+    """What is left of the sum of nests when it is multiplied by this denominator.
 
     It is a dict from tuples of factors, numbered, to what is multiplied by them: a dict from places to amounts.
     """
-    weights = weights_for(rows, axes)
-    return cleared(grouped([quotient(row, weights) for row in rows]))
+    return cleared(packed(rows, axes))

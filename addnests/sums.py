@@ -2,6 +2,10 @@
 
 A sum is a dict of groups: from a tuple of members, which name the factors, to what these factors are multiplied by,
 the terms, a dict from places to amounts other than 0. No member stands twice in a key.
+
+A scope (modulus, limit) tells which terms of a sum are asked for: amounts are counted modulo the modulus unless it
+is 0, and places behind the limit are left out unless it is None. As all factors begin with 1 at the place 0 and go
+on behind it, what is left out has no effect on what is asked for.
 """
 
 # The powers of a primitive root of a prime tell most sums from 0 at a glance.
@@ -11,9 +15,12 @@ ROOT = 7
 # So many thinned keys are looked at in search of groups that are close to each other, and no more.
 MOST_KEYS = 100000
 
+# The scope of all terms.
+ALL = (0, None)
+
 
 def ranked(groups, vectors):
-    """The sum divided by the factors of all groups, with other keys, and the vectors of their members.
+    """The sum divided by the factors of all groups, with other keys; the vectors of its members; those left out.
 
     The members are numbers from 0 on in the order of how many groups have them, the most common one first.
     """
@@ -24,7 +31,12 @@ def ranked(groups, vectors):
     order = sorted([one for one in many if many[one] < len(groups)], key=lambda one: (-many[one], one))
     rank = {one: at for at, one in enumerate(order)}
     renamed = {tuple(sorted([rank[one] for one in key if one in rank])): groups[key] for key in groups}
-    return (renamed, [vectors[one] for one in order])
+    return (renamed, [vectors[one] for one in order], [vectors[one] for one in many if one not in rank])
+
+
+def ranked_products(products):
+    """The same for a sum whose members are pairs of a vector and a number."""
+    return ranked(products, {member: member[0] for key in products for member in key})
 
 
 def power(exponent):
@@ -54,16 +66,40 @@ def residue(groups, vectors):
 
 def without_zeros(terms):
     """The terms whose amount is not 0."""
+    if 0 not in list(terms.values()):
+        return terms
     return {place: amount for place, amount in terms.items() if amount != 0}
 
 
-def multiplied(terms, vector):
+def trimmed(terms, scope):
+    """The terms that a scope asks for."""
+    modulus, limit = scope
+    if modulus > 0:
+        terms = {place: amount % modulus for place, amount in terms.items()}
+    if limit is not None:
+        terms = {place: amount for place, amount in terms.items() if place <= limit}
+    return without_zeros(terms)
+
+
+def with_terms(groups):
+    """The groups that have terms."""
+    return {key: groups[key] for key in groups if len(groups[key]) > 0}
+
+
+def multiplied(terms, vector, scope):
     """The terms times a factor 1 - z ** vector."""
     total = dict(terms)
     for place, amount in terms.items():
         behind = place + vector
         total[behind] = total.get(behind, 0) - amount
-    return without_zeros(total)
+    return trimmed(total, scope)
+
+
+def multiplied_by_all(terms, members, vectors, scope):
+    """The terms times the factors of some members."""
+    for member in members:
+        terms = multiplied(terms, vectors[member], scope)
+    return terms
 
 
 def thinned(key, most):
@@ -83,20 +119,17 @@ def ways(size, most):
     return total
 
 
-def merged(keys, rest, groups, vectors):
+def merged(keys, rest, groups, vectors, scope):
     """The terms of the sum of some groups, divided by the factors of a key that they have in common."""
     total = {}
     for key in keys:
-        terms = groups[key]
-        for member in key:
-            if member not in rest:
-                terms = multiplied(terms, vectors[member])
-        for place, amount in terms.items():
+        others = [member for member in key if member not in rest]
+        for place, amount in multiplied_by_all(groups[key], others, vectors, scope).items():
             total[place] = total.get(place, 0) + amount
-    return without_zeros(total)
+    return trimmed(total, scope)
 
 
-def met(groups, most, vectors):
+def met(groups, most, vectors, scope):
     """The same sum, where groups that are alike but for so many members each have become one, the closest first."""
     sharing = {}
     for key in groups:
@@ -110,21 +143,21 @@ def met(groups, most, vectors):
         if len(free) > 1:
             for key in free:
                 taken[key] = True
-            result[rest] = merged(free, rest, groups, vectors)
+            result[rest] = merged(free, rest, groups, vectors, scope)
     for key in groups:
         if key not in taken:
             result[key] = groups[key]
-    return {key: result[key] for key in result if len(result[key]) > 0}
+    return with_terms(result)
 
 
-def gathered(groups, vectors):
+def gathered(groups, vectors, scope):
     """The same sum in fewer groups, since those that differ least often cancel when nothing else is expanded."""
     longest = max([len(key) for key in groups])
     for most in range(1, longest + 1):
         before = 0
         while len(groups) not in (0, 1, before) and sum([ways(len(key), most) for key in groups]) <= MOST_KEYS:
             before = len(groups)
-            groups = met(groups, most, vectors)
+            groups = met(groups, most, vectors, scope)
     return groups
 
 
@@ -134,29 +167,32 @@ def runs(keys, depth):
     return [keys[start:end] for start, end in zip(starts, starts[1:] + [len(keys)])]
 
 
-def expanded(keys, depth, groups, vectors):
+def expanded(keys, depth, groups, vectors, scope):
     """The terms of the sum of some groups, divided by the factors ahead of a depth, which their sorted keys share.
 
     Members behind others are multiplied out first: the rare ones, without which keys cannot meet.
     """
+    if len(keys) == 1:
+        return multiplied_by_all(groups[keys[0]], keys[0][depth:][::-1], vectors, scope)
     total = {}
     longer = keys
     if len(keys[0]) == depth:
         total = dict(groups[keys[0]])
         longer = keys[1:]
     for run in runs(longer, depth):
-        for place, amount in multiplied(expanded(run, depth + 1, groups, vectors), vectors[run[0][depth]]).items():
+        inner = expanded(run, depth + 1, groups, vectors, scope)
+        for place, amount in multiplied(inner, vectors[run[0][depth]], scope).items():
             total[place] = total.get(place, 0) + amount
-    return without_zeros(total)
+    return trimmed(total, scope)
 
 
 def is_zero(products):
     """Whether a sum is 0; the members of its keys are pairs of a vector and a number."""
-    groups, vectors = ranked(products, {member: member[0] for key in products for member in key})
+    groups, vectors, shared = ranked_products(products)
     if residue(groups, vectors) != 0:
         return False
     if len(groups) > 1:
-        groups, vectors = ranked(gathered(groups, vectors), vectors)
+        groups, vectors, shared = ranked(gathered(groups, vectors, ALL), vectors)
     if len(groups) == 0:
         return True
-    return len(expanded(sorted(groups), 0, groups, vectors)) == 0
+    return len(expanded(sorted(groups), 0, groups, vectors, ALL)) == 0

@@ -3,7 +3,7 @@
 import inspect
 import unittest
 
-from addnests import errors, nests, programs
+from addnests import compare, errors, nests, programs, shares, tidy
 
 
 class Examples(unittest.TestCase):
@@ -24,6 +24,26 @@ class Examples(unittest.TestCase):
             [row == pairs, row * step == ends, row.total(), (row * row).total(), row == row.shifted((1,)), row.looped(3, (10 ** 20,)) == Program(1, [([(3 * 10 ** 20, (1,))], (0,), 1)])],
             [True, True, 100000000000000000000, 10000000000000000000000000000000000000000, False, True])
 
+    def test_compare(self):
+        from addnests.compare import alike, box, filled, first_apart, first_cell, first_not_once, last_cell
+        from addnests.programs import Program
+        tiles = Program(2, [([(10, (8, 0)), (12, (0, 5)), (8, (1, 0)), (5, (0, 1))], (0, 0), 1)])
+        wrong = Program(2, [([(10, (8, 0)), (12, (0, 5)), (8, (1, 0)), (6, (0, 1))], (0, 0), 1)])
+        self.assertEqual(
+            [tiles == filled((0, 0), [80, 60]), first_not_once(wrong, (0, 0), [80, 60]), first_apart(wrong, tiles, order=(-2, 1)), box(wrong), first_cell(wrong - tiles), last_cell(tiles, order=(2, -1)), alike(tiles, tiles * 8, modulus=7)],
+            [True, ((0, 5), 1), ((0, 60), 1), [(0, 79), (0, 60)], ((0, 5), 1), ((0, 59), 1), True])
+
+    def test_shares(self):
+        from addnests.compare import first_apart
+        from addnests.programs import Program
+        from addnests.shares import by_blocks, by_turns, first_wrong
+        nest = ([(10, (4,)), (3, (1,))], (0,), 1)
+        hands = [Program(1, [share]) for share in by_turns(nest, 0, 3)]
+        self.assertEqual(
+            [by_blocks(nest, 0, 3), by_turns(nest, 0, 4)[3], first_wrong(hands, Program(1, [nest])), first_wrong(hands[1:], Program(1, [nest]), order=(-1,))],
+            [[([(4, (4,)), (3, (1,))], (0,), 1), ([(3, (4,)), (3, (1,))], (16,), 1), ([(3, (4,)), (3, (1,))], (28,), 1)], ([(2, (16,)), (3, (1,))], (12,), 1), None, ((38,), -1)])
+        self.assertEqual(first_apart(hands[0] + hands[1] + hands[2], Program(1, [nest])), None)
+
 
 class Interface(unittest.TestCase):
     def test_functions(self):
@@ -42,6 +62,40 @@ class Interface(unittest.TestCase):
             function = getattr(nests, name)
             self.assertEqual(list(inspect.signature(function).parameters), arguments)
             self.assertEqual(function.__module__, "addnests.nests")
+
+    def test_functions_with_names(self):
+        order, modulus = ("order", None), ("modulus", 0)
+        listed = {
+            compare: {
+                "comes_first": ["one", "other", "order"],
+                "first_apart": ["one", "other", order, modulus],
+                "alike": ["one", "other", modulus],
+                "first_cell": ["program", order],
+                "last_cell": ["program", order],
+                "box": ["program"],
+                "filled": ["corner", "sizes"],
+                "first_not_once": ["program", "corner", "sizes", order],
+            },
+            tidy: {"tidied": ["program"]},
+            shares: {
+                "by_blocks": ["nest", "at", "workers"],
+                "by_turns": ["nest", "at", "workers"],
+                "first_wrong": ["shares", "whole", order],
+            },
+        }
+        for module, functions in listed.items():
+            for name, arguments in functions.items():
+                function = getattr(module, name)
+                self.assertEqual(function.__module__, module.__name__)
+                found = []
+                for parameter in inspect.signature(function).parameters.values():
+                    if parameter.kind == parameter.KEYWORD_ONLY:
+                        found.append((parameter.name, parameter.default))
+                    else:
+                        self.assertEqual(parameter.kind, parameter.POSITIONAL_OR_KEYWORD)
+                        self.assertIs(parameter.default, parameter.empty)
+                        found.append(parameter.name)
+                self.assertEqual(found, arguments)
 
     def test_program(self):
         self.assertEqual(programs.Program.__module__, "addnests.programs")

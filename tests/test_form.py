@@ -97,7 +97,9 @@ class Form(unittest.TestCase):
                     self.assertIn(node, tree.body)
                     self.assertEqual(node.level, 0)
                     source = FOLDER / (node.module.removeprefix("addnests.") + ".py")
-                    defined = [getattr(part, "name", None) for part in ast.parse(source.read_text()).body]
+                    body = ast.parse(source.read_text()).body
+                    defined = [getattr(part, "name", None) for part in body]
+                    defined += [target.id for part in body if isinstance(part, ast.Assign) for target in part.targets]
                     for alias in node.names:
                         self.assertIn(alias.name, defined)
                         self.assertIsNone(alias.asname)

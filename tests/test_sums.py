@@ -38,7 +38,20 @@ def random_sum(chance):
 
 def ranked_sum(groups):
     """A sum with numbers as members, and the vectors of them."""
-    return sums.ranked(groups, {member: member[0] for key in groups for member in key})
+    return sums.ranked_products(groups)[:2]
+
+
+def with_vectors(groups, vectors):
+    """The sum with pairs of a vector and a number as members again."""
+    return {tuple((vectors[one], one) for one in key): terms for key, terms in groups.items()}
+
+
+def in_scope(terms, scope):
+    """The terms that a scope asks for."""
+    modulus, limit = scope
+    kept = {place: amount % modulus if modulus else amount for place, amount in terms.items()
+            if limit is None or place <= limit}
+    return {place: amount for place, amount in kept.items() if amount}
 
 
 class Packing(unittest.TestCase):
@@ -104,44 +117,67 @@ class Steps(unittest.TestCase):
 
     def test_ranked(self):
         groups = {((5, 0), (7, 0)): {0: 1}, ((5, 0), (9, 0)): {1: 1}, ((5, 0), (5, 1), (9, 0)): {2: 1}}
-        self.assertEqual(ranked_sum(groups), ({(2,): {0: 1}, (0,): {1: 1}, (0, 1): {2: 1}}, [9, 5, 7]))
+        self.assertEqual(sums.ranked_products(groups), ({(2,): {0: 1}, (0,): {1: 1}, (0, 1): {2: 1}}, [9, 5, 7], [5]))
+        self.assertEqual(sums.ranked_products({((5, 0), (5, 1)): {0: 1}}), ({(): {0: 1}}, [], [5, 5]))
+        self.assertEqual(sums.ranked_products({}), ({}, [], []))
+
+    def test_ranking_keeps_the_sum(self):
+        chance = random.Random(9)
+        for trial in range(300):
+            groups = random_sum(chance)
+            renamed, vectors, left_out = sums.ranked_products(groups)
+            rest = {(): multiplied_out(with_vectors(renamed, vectors))}
+            again = {tuple((vector, at) for at, vector in enumerate(left_out)): rest[()]}
+            self.assertEqual(multiplied_out(again), multiplied_out(groups))
 
     def test_residue(self):
         chance = random.Random(2)
         for trial in range(300):
             groups, vectors = ranked_sum(random_sum(chance))
-            plain = {tuple((vectors[one], one) for one in key): terms for key, terms in groups.items()}
-            terms = multiplied_out(plain)
+            terms = multiplied_out(with_vectors(groups, vectors))
             wanted = sum(amount * pow(7, place, sums.PRIME) for place, amount in terms.items()) % sums.PRIME
             self.assertEqual(sums.residue(groups, vectors), wanted)
 
+    def test_trimmed(self):
+        terms = {-3: 6, 0: -1, 2: 4, 5: 0, 9: 3}
+        self.assertEqual(sums.trimmed(terms, sums.ALL), {-3: 6, 0: -1, 2: 4, 9: 3})
+        self.assertEqual(sums.trimmed(terms, (3, None)), {0: 2, 2: 1})
+        self.assertEqual(sums.trimmed(terms, (1, None)), {})
+        self.assertEqual(sums.trimmed(terms, (0, 2)), {-3: 6, 0: -1, 2: 4})
+        self.assertEqual(sums.trimmed(terms, (4, 1)), {-3: 2, 0: 3})
+        self.assertEqual(sums.trimmed(terms, (0, -4)), {})
+
     def test_meeting_and_expanding_keep_the_sum(self):
         chance = random.Random(3)
-        for trial in range(500):
+        for trial in range(800):
             groups, vectors = ranked_sum(random_sum(chance))
-            plain = {tuple((vectors[one], one) for one in key): terms for key, terms in groups.items()}
-            wanted = multiplied_out(plain)
-            self.assertEqual(sums.expanded(sorted(groups), 0, groups, vectors), wanted)
+            scope = (chance.choice([0, 0, 1, 2, 3, 5]), chance.choice([None, None, 0, 3, 6]))
+            groups = {key: in_scope(terms, scope) for key, terms in groups.items() if in_scope(terms, scope)}
+            wanted = in_scope(multiplied_out(with_vectors(groups, vectors)), scope)
+            if groups:
+                self.assertEqual(sums.expanded(sorted(groups), 0, groups, vectors, scope), wanted)
             for most in range(4):
-                fewer = sums.met(groups, most, vectors)
+                fewer = sums.met(groups, most, vectors, scope)
                 self.assertLessEqual(len(fewer), len(groups))
-                plain = {tuple((vectors[one], one) for one in key): terms for key, terms in fewer.items()}
-                self.assertEqual(multiplied_out(plain), wanted)
-            last = sums.gathered(groups, vectors)
-            self.assertLessEqual(len(last), 1)
-            plain = {tuple((vectors[one], one) for one in key): terms for key, terms in last.items()}
-            self.assertEqual(multiplied_out(plain), wanted)
+                self.assertEqual(in_scope(multiplied_out(with_vectors(fewer, vectors)), scope), wanted)
+            if groups:
+                last = sums.gathered(groups, vectors, scope)
+                self.assertLessEqual(len(last), 1)
+                self.assertEqual(in_scope(multiplied_out(with_vectors(last, vectors)), scope), wanted)
 
     def test_the_closest_meet_first(self):
         groups = {(0, 1, 2): {0: 1}, (0, 1, 3): {0: 1}, (4, 5, 6): {0: 1}, (4, 5): {9: 1}}
         vectors = [10, 20, 30, 40, 50, 60, 70]
-        self.assertEqual(sums.met(groups, 0, vectors), groups)
-        self.assertEqual(sums.met(groups, 1, vectors), {
+        self.assertEqual(sums.met(groups, 0, vectors, sums.ALL), groups)
+        self.assertEqual(sums.met(groups, 1, vectors, sums.ALL), {
             (0, 1): {0: 2, 30: -1, 40: -1}, (4, 5): {0: 1, 70: -1, 9: 1}})
 
     def test_groups_that_cancel_are_gone(self):
         groups = {(0, 1): {0: 1, 30: -1}, (0, 2): {0: -1, 20: 1}, (3, 4): {7: 1}}
-        self.assertEqual(sums.met(groups, 1, [10, 20, 30, 40, 50]), {(3, 4): {7: 1}})
+        self.assertEqual(sums.met(groups, 1, [10, 20, 30, 40, 50], sums.ALL), {(3, 4): {7: 1}})
+        groups = {(0, 1): {0: 1}, (0, 2): {0: 2, 20: 1}, (3, 4): {7: 1}}
+        self.assertEqual(sums.met(groups, 1, [10, 20, 30, 40, 50], (3, None)), {
+            (0,): {30: 1, 50: 2}, (3, 4): {7: 1}})
 
 
 class Ways(unittest.TestCase):
