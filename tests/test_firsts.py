@@ -42,6 +42,7 @@ class Terms(unittest.TestCase):
         self.assertEqual(firsts.least_places([4, 0], [1, 10], 5), [0, 1, 4, 5, 10])
         self.assertEqual(firsts.least_places([4, 0], [1, 10], 100), [0, 1, 4, 5, 10, 11, 14, 15])
         self.assertEqual(firsts.least_places([0], [2, 2, 2], 3), [0, 2, 2])
+        self.assertEqual(firsts.least_places([9, 4, 0], [100], 2), [0, 4])
 
     def test_horizon(self):
         groups = {(0, 1): {0: 1}, (0,): {50: 1, 51: -1, 60: 2}}
@@ -81,9 +82,11 @@ class Terms(unittest.TestCase):
         chance = random.Random(4)
         for trial in range(500):
             products = random_sum(chance)
-            terms, left_out = firsts.spelled_out(products)
-            again = {tuple((vector, at) for at, vector in enumerate(left_out)): terms}
-            self.assertEqual(multiplied_out(again), multiplied_out(products))
+            for most in (0, 100):
+                with mock.patch.object(sums, "MOST_KEYS", most):
+                    terms, left_out = firsts.spelled_out(products)
+                again = {tuple((vector, at) for at, vector in enumerate(left_out)): terms}
+                self.assertEqual(multiplied_out(again), multiplied_out(products))
         self.assertEqual(firsts.spelled_out({}), ({}, []))
 
     def test_denominator(self):

@@ -127,6 +127,21 @@ class Form(unittest.TestCase):
                     name = node.func.attr
                     self.assertTrue(name in own or name in METHODS or name == "__init__", name)
 
+    def test_iterated_at_once(self):
+        takers = "list tuple dict sorted sum any all enumerate zip min max".split()
+        for path, text, tree in modules():
+            at_once = []
+            for node in ast.walk(tree):
+                if isinstance(node, (ast.For, ast.comprehension)):
+                    at_once.append(node.iter)
+                if isinstance(node, ast.Call) and getattr(node.func, "id", None) in takers:
+                    at_once += node.args[:1] + (node.args[1:] if node.func.id == "zip" else [])
+            for node in ast.walk(tree):
+                if isinstance(node, ast.Call):
+                    named = getattr(node.func, "id", None) in ("zip", "enumerate", "reversed", "range")
+                    if named or getattr(node.func, "attr", None) in ("items", "keys", "values"):
+                        self.assertTrue(any(node is one for one in at_once), node.lineno)
+
     def test_only_own_dicts_and_lists_are_changed(self):
         # Operators, and all that they call, change nothing but what they created.
         made = (ast.List, ast.Dict, ast.ListComp)

@@ -194,6 +194,13 @@ class Ways(unittest.TestCase):
             wanted = round_by_round(one) == round_by_round(other)
             rows = (Program(axes, one) - Program(axes, other)).nests()
             self.assertIs(sums.is_zero(numerator(rows, axes)), wanted)
+        for trial in range(300):
+            groups = random_sum(chance)
+            rest = multiplied_out(groups)
+            self.assertIs(sums.is_zero(groups), not rest)
+            # The same sum, less its terms spelled out, in an order in which a short key stands behind longer ones.
+            if rest and () not in groups:
+                self.assertIs(sums.is_zero({**groups, (): {place: -amount for place, amount in rest.items()}}), True)
 
     def test_as_it_is(self):
         self.decided()
