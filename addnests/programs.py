@@ -16,7 +16,7 @@ def check_program(value):
 
 
 def check_axes(one, other):
-    """Raise UnlikeAxes unless two programs have equally many axes."""
+    """Raise UnlikeAxes unless two programs or families have equally many axes."""
     if one.axes != other.axes:
         raise UnlikeAxes((one.axes, other.axes))
 

@@ -49,6 +49,11 @@ def without(some, others):
     return left
 
 
+def reduced(factors, divisors):
+    """Factors and divisors, both in order, without those that stand on both sides."""
+    return (tuple(sorted(without(factors, divisors))), tuple(sorted(without(divisors, factors))))
+
+
 def quotient(row, weights):
     """A nest as ((factors, divisors), place, amount), packed; a vector v among them stands for 1 - z ** v."""
     loops, cell, amount = row
@@ -66,8 +71,7 @@ def quotient(row, weights):
             stride = -stride
         factors.append(count * stride)
         divisors.append(stride)
-    kind = (tuple(sorted(without(factors, divisors))), tuple(sorted(without(divisors, factors))))
-    return (kind, place, amount)
+    return (reduced(factors, divisors), place, amount)
 
 
 def collected(terms):

@@ -3,7 +3,7 @@
 import inspect
 import unittest
 
-from addnests import compare, errors, nests, programs, shares, tidy
+from addnests import cells, compare, errors, families, library, nests, programs, shares, texts, tidy
 
 
 class Examples(unittest.TestCase):
@@ -44,6 +44,33 @@ class Examples(unittest.TestCase):
             [[([(4, (4,)), (3, (1,))], (0,), 1), ([(3, (4,)), (3, (1,))], (16,), 1), ([(3, (4,)), (3, (1,))], (28,), 1)], ([(2, (16,)), (3, (1,))], (12,), 1), None, ((38,), -1)])
         self.assertEqual(first_apart(hands[0] + hands[1] + hands[2], Program(1, [nest])), None)
 
+    def test_cells(self):
+        from addnests.cells import amount_at, amount_in, cell_reaching, common, cuts, floor_sum
+        from addnests.programs import Program
+        web = Program(1, [([(10 ** 18, (6,)), (10 ** 18, (10,))], (0,), 1)])
+        hill = Program(1, [([(100, (1,)), (100, (1,))], (0,), 1)])
+        self.assertEqual(
+            [floor_sum(10, 3, 1, 4), amount_at(web, (6 * 10 ** 10,)), amount_in(web, (0,), (29,)), cell_reaching(hill, 4951), cuts(hill, 2), common(hill, Program(1, [([(3, (4,))], (0,), 1)]))],
+            [33, 2000000001, 11, (99,), [(99,)], 15])
+
+    def test_families(self):
+        from addnests.families import Family, alike_from, parts_from
+        n, one, none = (1, 0), (0, 1), (0, 0)
+        square = Family(1, [([(n, (n,)), (n, (one,))], (none,), 1)])
+        gaps = Family(1, [([(n, ((1, 1),)), (n, (one,))], (none,), 1)])
+        halves = Family(1, [([(n, ((0, 2),)), ((0, 2), (one,))], (none,), 1)])
+        self.assertEqual(
+            [square.at(3).total(), alike_from(square, gaps, 0), parts_from(square, gaps)[1:], alike_from(halves, Family(1, [([((2, 0), (one,))], (none,), 1)]), 0), gaps.least()],
+            [9, [0, 1], (((0, 1, 0),), 1), 'all', 0])
+
+    def test_texts(self):
+        from addnests.programs import Program
+        from addnests.texts import read_program, text_of
+        program = read_program("for 7 by (1) { add 3 at (5); for 2 by (10) {add -1 at(0)} }", 1)
+        self.assertEqual(
+            [text_of(program), program.nests(), text_of(Program(2, [])), program.total()],
+            ['for 7 by (1) { add 3 at (5) }; for 7 by (1) { for 2 by (10) { add -1 at (0) } }', [([(7, (1,))], (5,), 3), ([(7, (1,)), (2, (10,))], (0,), -1)], '', 7])
+
 
 class Interface(unittest.TestCase):
     def test_functions(self):
@@ -82,6 +109,16 @@ class Interface(unittest.TestCase):
                 "by_turns": ["nest", "at", "workers"],
                 "first_wrong": ["shares", "whole", order],
             },
+            cells: {
+                "amount_at": ["program", "cell"],
+                "floor_sum": ["count", "times", "plus", "over"],
+                "amount_in": ["program", "low", "high"],
+                "cell_reaching": ["program", "wanted"],
+                "cuts": ["program", "hands"],
+                "common": ["one", "other"],
+            },
+            families: {"alike_from": ["one", "other", "low"], "parts_from": ["one", "other"]},
+            texts: {"text_of": ["program"], "read_program": ["text", "axes"]},
         }
         for module, functions in listed.items():
             for name, arguments in functions.items():
@@ -111,6 +148,34 @@ class Interface(unittest.TestCase):
             self.assertEqual(list(inspect.signature(vars(programs.Program)[name]).parameters), arguments)
         for name in ("__len__", "__add__", "__sub__", "__neg__", "__mul__", "__rmul__", "__eq__"):
             self.assertIn(name, vars(programs.Program))
+
+    def test_family(self):
+        self.assertEqual(families.Family.__module__, "addnests.families")
+        listed = {"__init__": ["self", "axes", "nests"], "nests": ["self"], "at": ["self", "number"], "least": ["self"]}
+        for name, arguments in listed.items():
+            self.assertEqual(list(inspect.signature(vars(families.Family)[name]).parameters), arguments)
+        for name in ("__add__", "__sub__", "__neg__"):
+            self.assertIn(name, vars(families.Family))
+
+    def test_library(self):
+        self.assertEqual(library.Library.__module__, "addnests.library")
+        listed = {
+            "__init__": ["self", "axes"],
+            "put": ["self", "name", "program"],
+            "drop": ["self", "name"],
+            "change": ["self", "name", "program"],
+            "program": ["self", "name"],
+            "together": ["self", "names"],
+            "alike_to": ["self", "program"],
+            "names": ["self"],
+            "back": ["self"],
+            "log": ["self"],
+            "copy": ["self"],
+        }
+        for name, arguments in listed.items():
+            self.assertEqual(list(inspect.signature(vars(library.Library)[name]).parameters), arguments)
+        for name in ("__len__", "__contains__", "__eq__"):
+            self.assertIn(name, vars(library.Library))
 
     def test_errors(self):
         listed = [name for name in vars(errors) if not name.startswith("__")]

@@ -19,7 +19,7 @@ OverflowError RuntimeError NotImplementedError AttributeError StopIteration NotI
 METHODS = """append clear copy count endswith extend find get index insert isalnum isalpha isdigit islower isspace
 isupper items join keys ljust lower lstrip partition pop remove replace reverse rfind rjust rpartition rsplit rstrip
 setdefault split splitlines startswith strip update upper values zfill bit_length""".split()
-BEHIND_OPERATORS = "errors.py nests.py programs.py quotients.py sums.py vectors.py".split()
+BEHIND_OPERATORS = "errors.py families.py nests.py programs.py quotients.py sums.py vectors.py".split()
 SPECIAL = """__init__ __eq__ __len__ __add__ __sub__ __mul__ __rmul__ __neg__ __contains__""".split()
 BARRED_NODES = (
     ast.Global, ast.AsyncFunctionDef, ast.AsyncFor, ast.AsyncWith, ast.Await, ast.Div, ast.MatMult, ast.AnnAssign,
@@ -89,6 +89,16 @@ class Form(unittest.TestCase):
             self.assertEqual(sorted(local & set(imports + classes)), [])
             used = {node.id for node in ast.walk(tree) if isinstance(node, ast.Name)}
             self.assertEqual(sorted(set(imports) - used), [])
+
+    def test_no_name_is_a_method_and_an_attribute(self):
+        methods, attributes = set(), set()
+        for path, text, tree in modules():
+            for node in ast.walk(tree):
+                if isinstance(node, ast.ClassDef):
+                    methods |= {part.name for part in node.body if isinstance(part, ast.FunctionDef)}
+                if isinstance(node, ast.Attribute) and isinstance(node.ctx, ast.Store):
+                    attributes.add(node.attr)
+        self.assertEqual(sorted(methods & attributes), [])
 
     def test_imports(self):
         for path, text, tree in modules():

@@ -2,6 +2,7 @@
 
 import itertools
 
+from addnests.families import Family
 from addnests.programs import Program
 
 BIG = 10 ** 40
@@ -9,7 +10,7 @@ BIG = 10 ** 40
 
 def misfits():
     """Values of all the kinds that are neither a whole number, a cell, a nest, a list nor a program."""
-    return [None, True, False, "", "1", "(1,)", {}, {0: 1}, {"a": [1]}]
+    return [None, True, False, "", "1", "(1,)", {}, {0: 1}, {"a": [1]}, Family(1, []), {"n": [Family(2, [])]}]
 
 
 def not_numbers():
